@@ -1,0 +1,92 @@
+import ast
+import importlib
+import inspect
+import pathlib
+import unittest
+
+PACKAGE = pathlib.Path(__file__).resolve().parent.parent / "keenlot"
+SIGNATURES = {
+    "lots": {
+        "is_lot": "(value)",
+        "make_lot": "(values)",
+        "steel": "(lot)",
+        "top_sum": "(lot, count)",
+        "capacity": "(lot, need)",
+        "count_from": "(lot, need)",
+        "combine": "(first, second)",
+        "remove": "(lot, tools)",
+    },
+    "work": {
+        "choices": "(lot, need)",
+        "use": "(lot, tool, need)",
+        "walk": "(lot, row, picks)",
+        "work": "(lot, row, *, by='dullest')",
+        "serve": "(lot, row, *, by='dullest')",
+        "outcomes": "(lot, row)",
+        "ways": "(lot, row)",
+        "loss": "(lot, need, tool)",
+        "regret": "(lot, need, tool)",
+    },
+}
+ERRORS = [
+    "KeenError", "InvalidLot", "InvalidRow", "InvalidNumber", "InvalidOption", "InvalidList",
+    "InvalidDays", "InvalidEvents", "InvalidBook", "InvalidName", "TooLarge", "NothingToUndo",
+    "InvalidPicks", "MissingTool", "CannotDo", "Impossible", "TooSharp", "UnknownName",
+    "DuplicateName",
+]
+
+
+def defined_in(name):
+    tree = ast.parse((PACKAGE / f"{name}.py").read_text())
+    return [node.name for node in tree.body if isinstance(node, (ast.FunctionDef, ast.ClassDef))]
+
+
+class InterfaceTest(unittest.TestCase):
+    def test_init_is_empty(self):
+        self.assertEqual((PACKAGE / "__init__.py").read_bytes(), b"")
+
+    def test_functions_stand_in_their_files(self):
+        for module, signatures in SIGNATURES.items():
+            for name in signatures:
+                with self.subTest(module, name=name):
+                    self.assertIn(name, defined_in(module))
+
+    def test_errors_stand_in_their_file(self):
+        self.assertEqual(sorted(defined_in("errors")), sorted(ERRORS))
+
+    def test_signatures(self):
+        for module, signatures in SIGNATURES.items():
+            for name, signature in signatures.items():
+                with self.subTest(module, name=name):
+                    function = getattr(importlib.import_module(f"keenlot.{module}"), name)
+                    self.assertEqual(str(inspect.signature(function)), signature)
+
+
+class FormTest(unittest.TestCase):
+    def test_sizes_and_characters(self):
+        for path in sorted(PACKAGE.rglob("*.py")):
+            lines = path.read_text(encoding="utf-8").split("\n")
+            with self.subTest(path.name):
+                self.assertLessEqual(len(lines), 399)
+                self.assertLessEqual(max(len(line) for line in lines), 120)
+                self.assertTrue(all(" " <= sign <= "~" for line in lines for sign in line))
+
+    def test_functions_are_short(self):
+        for path in sorted(PACKAGE.rglob("*.py")):
+            for node in ast.walk(ast.parse(path.read_text())):
+                if isinstance(node, ast.FunctionDef):
+                    with self.subTest(path.name, function=node.name):
+                        self.assertLessEqual(node.end_lineno - node.lineno + 1, 40)
+
+    def test_imports_come_from_the_package(self):
+        for path in sorted(PACKAGE.rglob("*.py")):
+            for node in ast.walk(ast.parse(path.read_text())):
+                with self.subTest(path.name):
+                    self.assertNotIsInstance(node, ast.Import)
+                    if isinstance(node, ast.ImportFrom):
+                        self.assertTrue(node.module.startswith("keenlot."))
+                        self.assertNotIn("*", [name.name for name in node.names])
+
+
+if __name__ == "__main__":
+    unittest.main()

@@ -1,0 +1,86 @@
+"""Plain enumerations, written apart from the package, to compare it with."""
+
+
+def lots_with_steel(most):
+    """All lots whose steel is at most the given number."""
+    return [lot for total in range(most + 1) for lot in lots_of(total, total)]
+
+
+def lots_of(total, sharpest):
+    """All lots of this steel without a tool above sharpest."""
+    if total == 0:
+        return [()]
+    return [
+        (tool, *rest)
+        for tool in range(1, min(total, sharpest) + 1)
+        for rest in lots_of(total - tool, tool)
+    ]
+
+
+def rows_up_to(length, greatest):
+    """All rows of at most this length with needs of at most greatest."""
+    rows = [[]]
+    newest = [[]]
+    for _ in range(length):
+        newest = [row + [need] for row in newest for need in range(1, greatest + 1)]
+        rows = rows + newest
+    return rows
+
+
+def after(lot, pick):
+    """The lot after its tool of sharpness pick has performed a task."""
+    if pick == 0:
+        return lot
+    tools = list(lot)
+    tools.remove(pick)
+    tools.append(pick - 1)
+    return tuple(sorted([tool for tool in tools if tool > 0], reverse=True))
+
+
+def able(lot, need):
+    """The different tools that can perform a task of this need."""
+    return sorted({tool for tool in lot if tool >= need})
+
+
+def all_walks(lot, row):
+    """(picks, final lot) of every walk, with skips of every kind."""
+    return list(_walks(lot, row, lambda tools: [0] + tools))
+
+
+def keen_walks(lot, row):
+    """The walks that skip a task only if no tool can perform it."""
+    return list(_walks(lot, row, lambda tools: tools or [0]))
+
+
+def full_walks(lot, row):
+    """The walks without skips."""
+    return list(_walks(lot, row, lambda tools: tools))
+
+
+def _walks(lot, row, options):
+    if not row:
+        yield [], lot
+        return
+    for pick in options(able(lot, row[0])):
+        for picks, final in _walks(after(lot, pick), row[1:], options):
+            yield [pick] + picks, final
+
+
+def done(picks):
+    """The number of tasks that are performed."""
+    return len([pick for pick in picks if pick != 0])
+
+
+def tasks_of_need(lot, need):
+    """How many tasks of this need the lot performs, by performing them."""
+    count = 0
+    while able(lot, need):
+        lot = after(lot, able(lot, need)[0])
+        count = count + 1
+    return count
+
+
+def does_cover(first, second):
+    """Whether the capacity of first is at least that of second for every need."""
+    needs = range(1, max((0, *first, *second)) + 1)
+    return all(tasks_of_need(first, need) >= tasks_of_need(second, need) for need in needs)
