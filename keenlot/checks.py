@@ -1,11 +1,12 @@
 """The checks of arguments that the files of the package share."""
 
-from keenlot.errors import InvalidLot, InvalidNumber, InvalidRow
+from keenlot.errors import InvalidLot, InvalidNumber, InvalidOption, InvalidRow, TooLarge
 
 MOST_TOOLS = 60
 MOST_STEEL = 200
 MOST_TASKS = 200
 MOST_NUMBER = 200
+ORDERS = ("every", "some")
 
 
 def is_integer(value):
@@ -65,3 +66,21 @@ def check_count(value):
     """Raise InvalidNumber unless value can be a count or a number of steps."""
     if not is_between(value, 0, MOST_NUMBER):
         raise InvalidNumber("not an integer from 0 to 200")
+
+
+def check_cap(value):
+    """Raise InvalidNumber unless value is None or can be a cap."""
+    if value is not None:
+        check_positive(value)
+
+
+def check_order(value):
+    """Raise InvalidOption unless value says in which orders a heap is to be performed."""
+    if value not in ORDERS:
+        raise InvalidOption("neither every nor some")
+
+
+def check_limits(lot):
+    """Raise TooLarge if a resulting lot has too many tools or too much steel."""
+    if not is_within_limits(lot):
+        raise TooLarge("more than 60 tools or more than 200 steel")

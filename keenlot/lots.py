@@ -1,8 +1,8 @@
 """Lots: the tools that are there, as tuples of sharpness values in non-increasing order."""
 
-from keenlot.checks import MOST_NUMBER, check_count, check_lot, check_positive
-from keenlot.checks import is_list_between, is_valid_lot, is_within_limits
-from keenlot.errors import InvalidList, MissingTool, TooLarge
+from keenlot.checks import MOST_NUMBER, check_count, check_limits, check_lot, check_positive
+from keenlot.checks import is_list_between, is_valid_lot
+from keenlot.errors import InvalidList, MissingTool
 
 
 def is_lot(value):
@@ -34,7 +34,7 @@ def capacity(lot, need):
     """Return how many tasks of this need the lot can perform."""
     check_lot(lot)
     check_positive(need)
-    return sum([tool - need + 1 for tool in lot if tool >= need])
+    return capacity_of(lot, need)
 
 
 def count_from(lot, need):
@@ -64,8 +64,12 @@ def remove(lot, tools):
     return tuple(left)
 
 
+def capacity_of(tools, need):
+    """Return the capacity of a tuple of tools, which may be beyond the limits of a lot."""
+    return sum([tool - need + 1 for tool in tools if tool >= need])
+
+
 def _lot_of_tools(tools):
     lot = tuple(sorted(tools, reverse=True))
-    if not is_within_limits(lot):
-        raise TooLarge("more than 60 tools or more than 200 steel")
+    check_limits(lot)
     return lot

@@ -1,10 +1,16 @@
-"""The checks of arguments, for each function of keenlot.lots and keenlot.work."""
+"""The checks of arguments, for each function of the package."""
 
 import copy
+import importlib
+import inspect
 import unittest
 
-from keenlot import lots, work
-from keenlot.errors import InvalidList, InvalidLot, InvalidNumber, InvalidOption, InvalidPicks, InvalidRow, KeenError
+from keenlot import compare, heaps, keeping, lots, sharpening, work
+from keenlot.errors import (
+    Impossible, InvalidEvents, InvalidList, InvalidLot, InvalidNumber, InvalidOption, InvalidPicks, InvalidRow,
+    KeenError, TooLarge, TooSharp,
+)
+from tests.test_interface import SIGNATURES
 
 DEEP = [[[[[[[[[(3, 1)]]]]]]]]]
 COMMON = [
@@ -13,15 +19,28 @@ COMMON = [
     (1, 2), (0,), (3, 0), (-1,), (201,), (200, 1), (1,) * 61, (10 ** 99,), [0], [1, -1], [-1], [201], [10 ** 99],
     [1] * 200 + [0], -1, -200, 201, 10 ** 99, -(10 ** 99),
 ]
+
+
+def without(values, *right):
+    """The values that stay wrong where those in right are none."""
+    return [value for value in values if value not in right]
+
+
 # for each kind of argument its error, and values that do not have the form
 KINDS = {
     "lot": (InvalidLot, COMMON + [0, 1, [], [3, 1], [1] * 201]),
     "row": (InvalidRow, COMMON + [0, 1, (), (3, 1), [1] * 201]),
     "positive": (InvalidNumber, COMMON + [0, (), [], (3, 1), [1], [1] * 201]),
     "count": (InvalidNumber, COMMON + [(), [], (3, 1), [1], [1] * 201]),
-    "values": (InvalidList, [value for value in COMMON if value not in ([0], [1] * 200 + [0])] + [0, 1, (), (3, 1)]),
+    "values": (InvalidList, without(COMMON, [0], [1] * 200 + [0]) + [0, 1, (), (3, 1)]),
     "picks": (InvalidPicks, [None, True, "", "1", 0, 1, 10 ** 99, (), (1,), [], [True], [None], ["1"], [[1]], [0, 0]]),
     "rule": (InvalidOption, COMMON + [0, 1, (), [], (3, 1), [1], "Dullest", ["dullest"], ("sharpest",)]),
+    "order": (InvalidOption, COMMON + [0, 1, (), [], (3, 1), [1], "Every", ["every"], ("some",), "dullest"]),
+    # unlike for any other number, None is no wrong cap
+    "cap": (InvalidNumber, COMMON[1:] + [0, (), [], (3, 1), [1], [1] * 201]),
+    "lots": (InvalidList, without(COMMON, [(1,)]) + [0, 1, (), [], [(1,), [1]], [(1,), (1, 2)], [()] * 21, [(True,)]]),
+    "events": (InvalidEvents, COMMON + [0, 1, (), [("task", 0)], [["task", 1]], [("lose", 1)] * 201, (("task", 1),)]),
+    "any": (None, []),
 }
 # for each function its arguments: the name, the kind, a value with which the call succeeds
 CALLS = {
@@ -41,16 +60,71 @@ CALLS = {
     work.ways: [("lot", "lot", (3, 1)), ("row", "row", [])],
     work.loss: [("lot", "lot", (3, 1)), ("need", "positive", 1), ("tool", "positive", 3)],
     work.regret: [("lot", "lot", (3, 1)), ("need", "positive", 1), ("tool", "positive", 3)],
+    compare.covers: [("first", "lot", (3, 1)), ("second", "lot", (2, 2))],
+    compare.gap: [("first", "lot", (3, 1)), ("second", "lot", (4,))],
+    compare.parting_row: [("first", "lot", (3, 1)), ("second", "lot", (4,))],
+    compare.least_cover: [("lots", "lots", [(4,), (2, 2, 2)])],
+    compare.greatest_covered: [("lots", "lots", [(4,), (2, 2, 2)])],
+    heaps.can_some: [("lot", "lot", (3, 1)), ("heap", "row", [1, 3, 2])],
+    heaps.can_every: [("lot", "lot", (3, 1)), ("heap", "row", [1, 3, 2])],
+    heaps.blocks: [("lot", "lot", (4, 2)), ("heap", "row", [1, 3, 1, 1])],
+    heaps.is_plan: [("lot", "lot", (4, 2)), ("heap", "row", [3, 1, 1, 1]), ("value", "any", [[1, 3], [1, 1]])],
+    heaps.best_left: [("lot", "lot", (3, 2)), ("heap", "row", [1, 2])],
+    heaps.worst_left: [("lot", "lot", (3, 2)), ("heap", "row", [2, 1])],
+    heaps.most_done: [("lot", "lot", (3, 1)), ("heap", "row", [1, 3, 2, 1])],
+    heaps.fewest_done: [("lot", "lot", (3, 1)), ("heap", "row", [3, 1, 2, 1])],
+    heaps.count_orders: [("heap", "row", [2, 1, 1])],
+    heaps.count_good_orders: [("lot", "lot", (2,)), ("heap", "row", [2, 1])],
+    sharpening.sharpen: [("lot", "lot", (5, 2)), ("steps", "count", 3), ("cap", "cap", 6)],
+    sharpening.steps_needed: [
+        ("lot", "lot", (2,)), ("heap", "row", [2, 1]), ("order", "order", "some"), ("cap", "cap", 2),
+    ],
+    sharpening.tools_needed: [
+        ("lot", "lot", (3,)), ("heap", "row", [1, 3, 2, 2]), ("cap", "positive", 2), ("order", "order", "some"),
+    ],
+    sharpening.least_lot: [("heap", "row", [1, 3, 2, 1]), ("cap", "positive", 3)],
+    keeping.tools_kept: [("lot", "lot", (5, 3, 1)), ("heap", "row", [1, 3]), ("order", "order", "some")],
+    keeping.tools_spared: [("lot", "lot", (5, 3, 1)), ("heap", "row", [1, 3]), ("order", "order", "every")],
+    keeping.lose: [("lot", "lot", (3, 1)), ("count", "count", 1)],
+    keeping.run_events: [("lot", "lot", (2,)), ("events", "events", [("task", 2), ("sharpen", 2), ("lose", 0)])],
 }
+# calls whose arguments have the form, but that raise one of the further errors
+FAILING = [
+    (lots.combine, [(200,), (1,)], TooLarge),
+    (work.outcomes, [(1,) * 7, [1] * 11], TooLarge),
+    (work.ways, [(1,) * 7, [1] * 11], TooLarge),
+    (heaps.blocks, [(2,), [1, 2]], Impossible),
+    (heaps.best_left, [(2,), [2, 2]], Impossible),
+    (heaps.worst_left, [(2,), [1, 2]], Impossible),
+    (heaps.count_orders, [[1] * 8], TooLarge),
+    (heaps.count_good_orders, [(2,), [1] * 8], TooLarge),
+    (sharpening.sharpen, [(5, 2), 200, 4], TooSharp),
+    (sharpening.sharpen, [(5, 2), 200, 5], TooLarge),
+    (sharpening.sharpen, [(5, 2), 200, None], TooLarge),
+    (sharpening.steps_needed, [(5, 2), [9], "every", 4], TooSharp),
+    (sharpening.steps_needed, [(5, 2), [9], "some", 5], Impossible),
+    (sharpening.tools_needed, [(5, 2), [9], 4, "every"], Impossible),
+    (sharpening.tools_needed, [(5, 2), [9], 4, "some"], Impossible),
+    (sharpening.least_lot, [[200] * 200, 199], Impossible),
+    (sharpening.least_lot, [[200] * 200, 200], TooLarge),
+    (keeping.tools_kept, [(5, 2), [9], "every"], Impossible),
+    (keeping.tools_spared, [(5, 2), [9], "some"], Impossible),
+    (keeping.run_events, [(200,), [("sharpen", 1)]], TooLarge),
+]
 
 
 def call(function, parameters, values, by_name):
     """Call with these values, by name as far as possible or by position as far as possible."""
-    names = [name for name, _, _ in parameters]
+    named = dict(zip([name for name, _, _ in parameters], values))
     if by_name:
-        return function(**dict(reversed(list(zip(names, values)))))
-    named = {name: value for name, value in zip(names, values) if name == "by"}
-    return function(*[value for name, value in zip(names, values) if name != "by"], **named)
+        return function(**dict(reversed(named.items())))
+    by_position = [named.pop(name) for name in list(named) if name not in keyword_only(function)]
+    return function(*by_position, **named)
+
+
+def keyword_only(function):
+    found = inspect.signature(function).parameters.values()
+    return [parameter.name for parameter in found if parameter.kind is parameter.KEYWORD_ONLY]
 
 
 class ArgumentsTest(unittest.TestCase):
@@ -65,12 +139,13 @@ class ArgumentsTest(unittest.TestCase):
                 self.assertIsNone(caught.exception.index)
 
     def test_each_function_is_listed(self):
-        for module in (lots, work):
-            found = [value for name, value in vars(module).items() if callable(value) and name[0] != "_"]
-            own = [value for value in found if value.__module__ == module.__name__]
-            for function in own:
-                with self.subTest(function.__name__):
-                    self.assertTrue(function in CALLS or function is lots.is_lot)
+        for module, signatures in SIGNATURES.items():
+            for name in signatures:
+                function = getattr(importlib.import_module(f"keenlot.{module}"), name)
+                with self.subTest(name):
+                    if function is not lots.is_lot:
+                        names = [parameter for parameter, _, _ in CALLS[function]]
+                        self.assertEqual(list(inspect.signature(function).parameters), names)
 
     def test_arguments_by_name_give_the_same_result(self):
         for function, parameters in CALLS.items():
@@ -117,6 +192,53 @@ class ArgumentsTest(unittest.TestCase):
             for wrong in [None, True, "abc", -1, 10 ** 99, DEEP]:
                 with self.subTest(function.__name__, wrong=wrong):
                     self.check(error, function, parameters, [wrong] * len(parameters))
+
+    def test_the_form_comes_before_the_further_errors(self):
+        for function, values, further in FAILING:
+            parameters = CALLS[function]
+            self.check(further, function, parameters, values)
+            for at, (name, kind, _) in enumerate(parameters):
+                error, wrong_values = KINDS[kind]
+                with self.subTest(function.__name__, values=values[:1], name=name):
+                    for wrong in wrong_values:
+                        self.check(error, function, parameters, values[:at] + [wrong] + values[at + 1:])
+
+    def test_options_and_caps_are_passed_by_name_only(self):
+        for function, parameters in CALLS.items():
+            names = keyword_only(function)
+            if names:
+                with self.subTest(function.__name__):
+                    values = [value for _, _, value in parameters]
+                    for many in range(len(names)):
+                        with self.assertRaises(TypeError):
+                            function(*values[:len(values) - many])
+
+    def test_the_defaults(self):
+        for function, values, named in [
+            (work.work, [(3, 1), [2, 1]], {"by": "dullest"}),
+            (work.serve, [(3, 1), [2, 1]], {"by": "dullest"}),
+            (sharpening.sharpen, [(5, 2), 3], {"cap": None}),
+            (sharpening.steps_needed, [(2,), [1, 2]], {"order": "every", "cap": None}),
+            (sharpening.tools_needed, [(3,), [3, 2, 2, 1], 2], {"order": "every"}),
+            (keeping.tools_kept, [(3, 2, 1), [3, 2, 1]], {"order": "every"}),
+            (keeping.tools_spared, [(3, 3, 3), [3, 2, 1]], {"order": "every"}),
+        ]:
+            with self.subTest(function.__name__):
+                self.assertEqual(function(*values), function(*values, **named))
+
+    def test_equal_arguments_give_equal_results_of_their_own(self):
+        for function, parameters in CALLS.items():
+            with self.subTest(function.__name__):
+                values = [value for _, _, value in parameters]
+                first = call(function, parameters, values, False)
+                kept = copy.deepcopy(first)
+                second = call(function, parameters, values, False)
+                self.assertEqual(second, kept)
+                if isinstance(first, list):
+                    self.assertIsNot(first, second)
+                    first.append(7)
+                    self.assertEqual(second, kept)
+                    self.assertEqual(call(function, parameters, values, False), kept)
 
     def test_the_form_comes_before_all_other_conditions(self):
         for function, values, error in [

@@ -2,6 +2,7 @@ import ast
 import importlib
 import inspect
 import pathlib
+import re
 import unittest
 
 PACKAGE = pathlib.Path(__file__).resolve().parent.parent / "keenlot"
@@ -26,6 +27,37 @@ SIGNATURES = {
         "ways": "(lot, row)",
         "loss": "(lot, need, tool)",
         "regret": "(lot, need, tool)",
+    },
+    "compare": {
+        "covers": "(first, second)",
+        "gap": "(first, second)",
+        "parting_row": "(first, second)",
+        "least_cover": "(lots)",
+        "greatest_covered": "(lots)",
+    },
+    "heaps": {
+        "can_some": "(lot, heap)",
+        "can_every": "(lot, heap)",
+        "blocks": "(lot, heap)",
+        "is_plan": "(lot, heap, value)",
+        "best_left": "(lot, heap)",
+        "worst_left": "(lot, heap)",
+        "most_done": "(lot, heap)",
+        "fewest_done": "(lot, heap)",
+        "count_orders": "(heap)",
+        "count_good_orders": "(lot, heap)",
+    },
+    "sharpening": {
+        "sharpen": "(lot, steps, *, cap=None)",
+        "steps_needed": "(lot, heap, *, order='every', cap=None)",
+        "tools_needed": "(lot, heap, cap, *, order='every')",
+        "least_lot": "(heap, cap)",
+    },
+    "keeping": {
+        "tools_kept": "(lot, heap, *, order='every')",
+        "tools_spared": "(lot, heap, *, order='every')",
+        "lose": "(lot, count)",
+        "run_events": "(lot, events)",
     },
 }
 ERRORS = [
@@ -77,6 +109,13 @@ class FormTest(unittest.TestCase):
                 if isinstance(node, ast.FunctionDef):
                     with self.subTest(path.name, function=node.name):
                         self.assertLessEqual(node.end_lineno - node.lineno + 1, 40)
+
+    def test_words_that_the_language_bars(self):
+        words = r"\b(type|typing|enum|Enum|Flag|Generic|Protocol|ABC|namedtuple|open|input|law|register|elements)\b"
+        barred = re.compile(words + r"|dataclass|overload|contextmanager|_wall")
+        for path in sorted(PACKAGE.rglob("*.py")):
+            with self.subTest(path.name):
+                self.assertEqual([found.group() for found in barred.finditer(path.read_text())], [])
 
     def test_imports_come_from_the_package(self):
         for path in sorted(PACKAGE.rglob("*.py")):

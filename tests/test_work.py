@@ -1,24 +1,10 @@
 import unittest
 
-from keenlot.errors import CannotDo, InvalidNumber, InvalidOption, InvalidPicks, MissingTool
+from keenlot.errors import CannotDo, InvalidNumber, InvalidOption, InvalidPicks
 from keenlot.lots import capacity, is_lot, steel
 from keenlot.work import choices, loss, regret, serve, use, walk, work
+from tests.cases import Case
 from tests.walks import after, all_walks, done, full_walks, lots_with_steel, rows_up_to
-
-
-class Case(unittest.TestCase):
-    def raised(self, error, function, *arguments, **named):
-        with self.assertRaises(error) as caught:
-            function(*arguments, **named)
-        self.assertIs(type(caught.exception), error)
-        return caught.exception
-
-    def cannot(self, function, *arguments, **named):
-        error = self.raised(CannotDo, function, *arguments, **named)
-        return error.index, error.lot, error.day
-
-    def missing(self, function, *arguments):
-        return self.raised(MissingTool, function, *arguments).tool
 
 
 class ChoicesTest(Case):

@@ -1,5 +1,8 @@
 """Plain enumerations, written apart from the package, to compare it with."""
 
+from functools import lru_cache
+from itertools import combinations_with_replacement, permutations
+
 
 def lots_with_steel(most):
     """All lots whose steel is at most the given number."""
@@ -84,3 +87,63 @@ def does_cover(first, second):
     """Whether the capacity of first is at least that of second for every need."""
     needs = range(1, max((0, *first, *second)) + 1)
     return all(tasks_of_need(first, need) >= tasks_of_need(second, need) for need in needs)
+
+
+def heaps_up_to(length, greatest):
+    """All heaps of at most this length with needs of at most greatest, each in ascending order."""
+    needs = range(1, greatest + 1)
+    return [list(heap) for size in range(length + 1) for heap in combinations_with_replacement(needs, size)]
+
+
+def orders_of(heap):
+    """All distinct orders of a heap."""
+    return [list(order) for order in sorted(set(permutations(heap)))]
+
+
+@lru_cache(maxsize=None)
+def most_of_row(lot, row):
+    """The greatest number of tasks that any walk performs; row is a tuple."""
+    if not row:
+        return 0
+    performed = [1 + most_of_row(after(lot, tool), row[1:]) for tool in able(lot, row[0])]
+    return max([most_of_row(lot, row[1:]), *performed])
+
+
+def can_perform(lot, row):
+    """Whether some walk performs the whole row."""
+    return most_of_row(tuple(lot), tuple(row)) == len(row)
+
+
+@lru_cache(maxsize=None)
+def _enough(lot, heap, order):
+    found = (can_perform(lot, row) for row in orders_of(heap))
+    return any(found) if order == "some" else all(found)
+
+
+def enough(lot, heap, order):
+    """Whether the lot can perform the heap in every or in some order, by trying them all."""
+    return _enough(tuple(lot), tuple(heap), order)
+
+
+def overloaded(lot, heap):
+    """The greatest need that too many tasks reach, or None."""
+    found = [need for need in heap if len([task for task in heap if task >= need]) > tasks_of_need(lot, need)]
+    return max(found, default=None)
+
+
+def sharpened_once(lot):
+    """All lots after one step of sharpening."""
+    raised = {descending([*lot[:at], lot[at] + 1, *lot[at + 1:]]) for at in range(len(lot))}
+    return raised | {(*lot, 1)}
+
+
+def all_sharpened(lot, steps, cap):
+    """All lots after this number of steps, without a tool above cap unless cap is None."""
+    lots = {lot}
+    for _ in range(steps):
+        lots = {more for one in lots for more in sharpened_once(one) if cap is None or more[0] <= cap}
+    return lots
+
+
+def descending(tools):
+    return tuple(sorted(tools, reverse=True))
