@@ -5,6 +5,7 @@ from keenlot.errors import InvalidLot, InvalidNumber, InvalidOption, InvalidRow,
 MOST_TOOLS = 60
 MOST_STEEL = 200
 MOST_TASKS = 200
+MOST_ROWS = 20
 MOST_NUMBER = 200
 ORDERS = ("every", "some")
 
@@ -42,6 +43,13 @@ def is_valid_lot(value):
 def is_valid_row(value):
     """Return whether value, any value, is a row (or, which is the same, a heap)."""
     return is_list_between(value, 1, MOST_NUMBER) and len(value) <= MOST_TASKS
+
+
+def is_list_of_rows(value):
+    """Return whether value, any value, is a list of 1 to 20 rows (days) or heaps (a book)."""
+    if not isinstance(value, list) or not 1 <= len(value) <= MOST_ROWS:
+        return False
+    return all(is_valid_row(item) for item in value)
 
 
 def check_lot(value):

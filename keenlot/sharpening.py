@@ -27,7 +27,7 @@ def steps_needed(lot, heap, *, order="every", cap=None):
     _check_needs(heap, cap)
     # This many steps are enough for a new tool of the greatest sharpness for each task.
     most = len(heap) * (MOST_NUMBER if cap is None else cap)
-    return _least(most, lambda steps: is_enough(sharpened(lot, steps, cap), heap, order))
+    return least_number(most, lambda steps: is_enough(sharpened(lot, steps, cap), heap, order))
 
 
 def tools_needed(lot, heap, cap, *, order="every"):
@@ -39,7 +39,7 @@ def tools_needed(lot, heap, cap, *, order="every"):
     # More tools than one for each task are never used.
     most = len(heap)
     check_enough(_with_tools(lot, most, cap), heap, order)
-    return _least(most, lambda count: is_enough(_with_tools(lot, count, cap), heap, order))
+    return least_number(most, lambda count: is_enough(_with_tools(lot, count, cap), heap, order))
 
 
 def least_lot(heap, cap):
@@ -78,17 +78,8 @@ def sharpened(lot, steps, cap):
     return tuple(tools + [last] if last > 0 else tools)
 
 
-def _with_tools(lot, count, cap):
-    return tuple(sorted(list(lot) + [cap] * count, reverse=True))
-
-
-def _check_needs(heap, cap):
-    if cap is not None and max([0, *heap]) > cap:
-        raise Impossible(max(heap))
-
-
-def _least(most, holds):
-    # It holds for most, and from the least number on for all above.
+def least_number(most, holds):
+    """Return the least number from 0 for which it holds, where it holds for most and for all above the least."""
     low = 0
     high = most
     while low < high:
@@ -98,3 +89,12 @@ def _least(most, holds):
         else:
             low = middle + 1
     return low
+
+
+def _with_tools(lot, count, cap):
+    return tuple(sorted(list(lot) + [cap] * count, reverse=True))
+
+
+def _check_needs(heap, cap):
+    if cap is not None and max([0, *heap]) > cap:
+        raise Impossible(max(heap))

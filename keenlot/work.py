@@ -44,7 +44,7 @@ def work(lot, row, *, by="dullest"):
     check_lot(lot)
     check_row(row)
     _check_rule(by)
-    return _perform(lot, row, by, False)
+    return perform(lot, row, by, False)
 
 
 def serve(lot, row, *, by="dullest"):
@@ -52,7 +52,7 @@ def serve(lot, row, *, by="dullest"):
     check_lot(lot)
     check_row(row)
     _check_rule(by)
-    return _perform(lot, row, by, True)
+    return perform(lot, row, by, True)
 
 
 def outcomes(lot, row):
@@ -92,6 +92,26 @@ def regret(lot, need, tool):
     return [need] + [low] * capacity(_worn(lot, dullest), low)
 
 
+def perform(tools, row, by, skipping):
+    """Perform the row by the rule; skip the tasks that no tool can perform, or raise CannotDo.
+
+    The tools are in non-increasing order, and may be beyond the limits of a lot.
+    """
+    picks = []
+    left = tools
+    for index, need in enumerate(row):
+        suitable = _suitable(left, need)
+        if suitable:
+            pick = suitable[0] if by == "sharpest" else suitable[-1]
+            picks.append(pick)
+            left = _worn(left, pick)
+        elif skipping:
+            picks.append(0)
+        else:
+            raise CannotDo(index, left)
+    return picks, left
+
+
 def _suitable(lot, need):
     found = []
     for tool in lot:
@@ -105,22 +125,6 @@ def _worn(lot, tool):
     at = lot.index(tool) + lot.count(tool) - 1
     rest = (tool - 1,) if tool > 1 else ()
     return lot[:at] + rest + lot[at + 1:]
-
-
-def _perform(lot, row, by, skipping):
-    picks = []
-    left = lot
-    for index, need in enumerate(row):
-        tools = _suitable(left, need)
-        if tools:
-            pick = tools[0] if by == "sharpest" else tools[-1]
-            picks.append(pick)
-            left = _worn(left, pick)
-        elif skipping:
-            picks.append(0)
-        else:
-            raise CannotDo(index, left)
-    return picks, left
 
 
 def _ways_by_final_lot(lot, row):

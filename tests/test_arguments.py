@@ -5,43 +5,13 @@ import importlib
 import inspect
 import unittest
 
-from keenlot import compare, heaps, keeping, lots, sharpening, work
+from keenlot import books, compare, counting, days, heaps, keeping, lots, sharpening, work
 from keenlot.errors import (
-    Impossible, InvalidEvents, InvalidList, InvalidLot, InvalidNumber, InvalidOption, InvalidPicks, InvalidRow,
-    KeenError, TooLarge, TooSharp,
+    CannotDo, Impossible, InvalidLot, InvalidNumber, InvalidPicks, InvalidRow, KeenError, TooLarge, TooSharp,
 )
+from tests.kinds import DEEP, KINDS
 from tests.test_interface import SIGNATURES
 
-DEEP = [[[[[[[[[(3, 1)]]]]]]]]]
-COMMON = [
-    None, True, False, "", "abc", "dull", "(3, 1)", "[1]", (None,), (True,), (1, True), ((),), ((3, 1),), ((3,), [1]),
-    [None], [True], [1, True], [False], [[]], [[1]], [[1], [2, [3]]], [(1,)], ["1"], ("1",), DEEP, (DEEP, DEEP),
-    (1, 2), (0,), (3, 0), (-1,), (201,), (200, 1), (1,) * 61, (10 ** 99,), [0], [1, -1], [-1], [201], [10 ** 99],
-    [1] * 200 + [0], -1, -200, 201, 10 ** 99, -(10 ** 99),
-]
-
-
-def without(values, *right):
-    """The values that stay wrong where those in right are none."""
-    return [value for value in values if value not in right]
-
-
-# for each kind of argument its error, and values that do not have the form
-KINDS = {
-    "lot": (InvalidLot, COMMON + [0, 1, [], [3, 1], [1] * 201]),
-    "row": (InvalidRow, COMMON + [0, 1, (), (3, 1), [1] * 201]),
-    "positive": (InvalidNumber, COMMON + [0, (), [], (3, 1), [1], [1] * 201]),
-    "count": (InvalidNumber, COMMON + [(), [], (3, 1), [1], [1] * 201]),
-    "values": (InvalidList, without(COMMON, [0], [1] * 200 + [0]) + [0, 1, (), (3, 1)]),
-    "picks": (InvalidPicks, [None, True, "", "1", 0, 1, 10 ** 99, (), (1,), [], [True], [None], ["1"], [[1]], [0, 0]]),
-    "rule": (InvalidOption, COMMON + [0, 1, (), [], (3, 1), [1], "Dullest", ["dullest"], ("sharpest",)]),
-    "order": (InvalidOption, COMMON + [0, 1, (), [], (3, 1), [1], "Every", ["every"], ("some",), "dullest"]),
-    # unlike for any other number, None is no wrong cap
-    "cap": (InvalidNumber, COMMON[1:] + [0, (), [], (3, 1), [1], [1] * 201]),
-    "lots": (InvalidList, without(COMMON, [(1,)]) + [0, 1, (), [], [(1,), [1]], [(1,), (1, 2)], [()] * 21, [(True,)]]),
-    "events": (InvalidEvents, COMMON + [0, 1, (), [("task", 0)], [["task", 1]], [("lose", 1)] * 201, (("task", 1),)]),
-    "any": (None, []),
-}
 # for each function its arguments: the name, the kind, a value with which the call succeeds
 CALLS = {
     lots.make_lot: [("values", "values", [1, 3, 0])],
@@ -87,6 +57,23 @@ CALLS = {
     keeping.tools_spared: [("lot", "lot", (5, 3, 1)), ("heap", "row", [1, 3]), ("order", "order", "every")],
     keeping.lose: [("lot", "lot", (3, 1)), ("count", "count", 1)],
     keeping.run_events: [("lot", "lot", (2,)), ("events", "events", [("task", 2), ("sharpen", 2), ("lose", 0)])],
+    days.through: [
+        ("lot", "lot", (2,)), ("days", "days", [[2], [], [2, 1]]), ("steps", "count", 1), ("cap", "cap", 3),
+    ],
+    days.through_any: [
+        ("lot", "lot", (2,)), ("days", "days", [[2], [], [2, 1]]), ("steps", "count", 1), ("cap", "cap", 3),
+    ],
+    days.even_steps: [("lot", "lot", (2,)), ("days", "days", [[2], [2, 1]])],
+    counting.covered_lots: [("lot", "lot", (3, 1))],
+    counting.count_covered: [("lot", "lot", (3, 1))],
+    books.allows: [("book", "book", [[1, 2], []]), ("row", "row", [1, 1])],
+    books.serves: [("lot", "lot", (3, 1)), ("book", "book", [[1, 2], [1]])],
+    books.failing_row: [("lot", "lot", (3, 1)), ("book", "book", [[1, 2], [3, 1, 2]])],
+    books.reduce_book: [("book", "book", [[1, 2], [1], [], [1, 1, 1]])],
+    books.either: [("first", "book", [[1, 2], [1]]), ("second", "book", [[1, 2], [1, 1, 1]])],
+    books.merge: [("first", "book", [[1, 2], [1]]), ("second", "book", [[1, 2], [1, 1, 1]])],
+    books.limit_tasks: [("book", "book", [[1, 2], [1, 1, 1]]), ("count", "count", 2)],
+    books.steps_for: [("lot", "lot", (3, 1)), ("book", "book", [[1, 2], [3, 1, 2]])],
 }
 # calls whose arguments have the form, but that raise one of the further errors
 FAILING = [
@@ -110,6 +97,15 @@ FAILING = [
     (keeping.tools_kept, [(5, 2), [9], "every"], Impossible),
     (keeping.tools_spared, [(5, 2), [9], "some"], Impossible),
     (keeping.run_events, [(200,), [("sharpen", 1)]], TooLarge),
+    (days.through, [(5,), [[6]], 0, 4], TooSharp),
+    (days.through, [(5,), [[6]], 0, None], CannotDo),
+    (days.through, [(200,), [[], []], 1, 200], TooLarge),
+    (days.through_any, [(5,), [[6]], 0, 4], TooSharp),
+    (days.through_any, [(200,), [[], []], 1, None], TooLarge),
+    (counting.covered_lots, [(13,)], TooLarge),
+    (counting.count_covered, [(41,)], TooLarge),
+    (books.either, [[[at] * (30 - at) for at in range(1, 21)], [[21] * 9]], TooLarge),
+    (books.merge, [[[1] * 200], [[1]]], TooLarge),
 ]
 
 
@@ -125,6 +121,14 @@ def call(function, parameters, values, by_name):
 def keyword_only(function):
     found = inspect.signature(function).parameters.values()
     return [parameter.name for parameter in found if parameter.kind is parameter.KEYWORD_ONLY]
+
+
+def lists_within(value):
+    """All lists that stand in a value, itself included."""
+    if not isinstance(value, (list, tuple)):
+        return []
+    own = [value] if isinstance(value, list) else []
+    return own + [part for item in value for part in lists_within(item)]
 
 
 class ArgumentsTest(unittest.TestCase):
@@ -218,6 +222,8 @@ class ArgumentsTest(unittest.TestCase):
             (work.work, [(3, 1), [2, 1]], {"by": "dullest"}),
             (work.serve, [(3, 1), [2, 1]], {"by": "dullest"}),
             (sharpening.sharpen, [(5, 2), 3], {"cap": None}),
+            (days.through, [(2,), [[2], [2, 1]], 1], {"cap": None}),
+            (days.through_any, [(2,), [[2], [1, 2]], 2], {"cap": None}),
             (sharpening.steps_needed, [(2,), [1, 2]], {"order": "every", "cap": None}),
             (sharpening.tools_needed, [(3,), [3, 2, 2, 1], 2], {"order": "every"}),
             (keeping.tools_kept, [(3, 2, 1), [3, 2, 1]], {"order": "every"}),
@@ -239,6 +245,15 @@ class ArgumentsTest(unittest.TestCase):
                     first.append(7)
                     self.assertEqual(second, kept)
                     self.assertEqual(call(function, parameters, values, False), kept)
+
+    def test_no_list_stands_in_a_result_twice_or_in_an_argument_too(self):
+        for function, parameters in CALLS.items():
+            with self.subTest(function.__name__):
+                values = copy.deepcopy([value for _, _, value in parameters])
+                result = call(function, parameters, values, False)
+                found = [id(part) for part in lists_within(result)]
+                self.assertEqual(len(found), len(set(found)))
+                self.assertEqual(set(found) & {id(part) for part in lists_within(values)}, set())
 
     def test_the_form_comes_before_all_other_conditions(self):
         for function, values, error in [

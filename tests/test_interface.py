@@ -1,9 +1,12 @@
 import ast
+import builtins
 import importlib
 import inspect
 import pathlib
 import re
 import unittest
+
+from keenlot.shop import Shop
 
 PACKAGE = pathlib.Path(__file__).resolve().parent.parent / "keenlot"
 SIGNATURES = {
@@ -59,12 +62,57 @@ SIGNATURES = {
         "lose": "(lot, count)",
         "run_events": "(lot, events)",
     },
+    "days": {
+        "through": "(lot, days, steps, *, cap=None)",
+        "through_any": "(lot, days, steps, *, cap=None)",
+        "even_steps": "(lot, days)",
+    },
+    "counting": {
+        "covered_lots": "(lot)",
+        "count_covered": "(lot)",
+    },
+    "books": {
+        "allows": "(book, row)",
+        "serves": "(lot, book)",
+        "failing_row": "(lot, book)",
+        "reduce_book": "(book)",
+        "either": "(first, second)",
+        "merge": "(first, second)",
+        "limit_tasks": "(book, count)",
+        "steps_for": "(lot, book)",
+    },
+}
+SHOP = {
+    "names": "(self)",
+    "lot_of": "(self, name)",
+    "put": "(self, name, lot)",
+    "take": "(self, name)",
+    "give": "(self, name, lot)",
+    "work": "(self, name, row)",
+    "serve": "(self, name, row)",
+    "sharpen": "(self, name, steps)",
+    "lose": "(self, name, count)",
+    "absorb": "(self, first, second)",
+    "split_off": "(self, name, count, new)",
+    "undo": "(self)",
+    "totals": "(self)",
 }
 ERRORS = [
     "KeenError", "InvalidLot", "InvalidRow", "InvalidNumber", "InvalidOption", "InvalidList",
     "InvalidDays", "InvalidEvents", "InvalidBook", "InvalidName", "TooLarge", "NothingToUndo",
     "InvalidPicks", "MissingTool", "CannotDo", "Impossible", "TooSharp", "UnknownName",
     "DuplicateName",
+]
+
+
+# of the builtins and of the methods of builtin values those that the language lists and the package has use for
+BUILTINS = [
+    "len", "range", "enumerate", "zip", "min", "max", "sum", "abs", "sorted", "reversed", "int", "str", "bool", "list",
+    "tuple", "dict", "set", "isinstance", "any", "all", "ValueError",
+]
+METHODS = [
+    "append", "clear", "copy", "count", "endswith", "extend", "find", "get", "index", "insert", "items", "join", "keys",
+    "pop", "remove", "replace", "reverse", "setdefault", "sort", "split", "startswith", "strip", "update", "values",
 ]
 
 
@@ -86,12 +134,33 @@ class InterfaceTest(unittest.TestCase):
     def test_errors_stand_in_their_file(self):
         self.assertEqual(sorted(defined_in("errors")), sorted(ERRORS))
 
+    def test_shop(self):
+        self.assertIn("Shop", defined_in("shop"))
+        self.assertEqual(str(inspect.signature(Shop)), "()")
+        for name, signature in SHOP.items():
+            with self.subTest(name):
+                self.assertIn(name, vars(Shop))
+                self.assertEqual(str(inspect.signature(vars(Shop)[name])), signature)
+
     def test_signatures(self):
         for module, signatures in SIGNATURES.items():
             for name, signature in signatures.items():
                 with self.subTest(module, name=name):
                     function = getattr(importlib.import_module(f"keenlot.{module}"), name)
                     self.assertEqual(str(inspect.signature(function)), signature)
+
+
+def bound_at_module_level(tree):
+    names = [node.name for node in tree.body if isinstance(node, (ast.FunctionDef, ast.ClassDef))]
+    names = names + [alias.name for node in tree.body if isinstance(node, ast.ImportFrom) for alias in node.names]
+    return names + [node.targets[0].id for node in tree.body if isinstance(node, ast.Assign)]
+
+
+def bound_in(function):
+    """The parameters and the local variables of a function, those of its comprehensions and lambdas too."""
+    names = [node.id for node in ast.walk(function) if isinstance(node, ast.Name) and isinstance(node.ctx, ast.Store)]
+    names = names + [node.arg for node in ast.walk(function) if isinstance(node, ast.arg)]
+    return names + [node.name for node in ast.walk(function) if isinstance(node, ast.ExceptHandler) and node.name]
 
 
 class FormTest(unittest.TestCase):
@@ -116,6 +185,37 @@ class FormTest(unittest.TestCase):
         for path in sorted(PACKAGE.rglob("*.py")):
             with self.subTest(path.name):
                 self.assertEqual([found.group() for found in barred.finditer(path.read_text())], [])
+
+    def test_names(self):
+        for path in sorted(PACKAGE.rglob("*.py")):
+            tree = ast.parse(path.read_text())
+            own = bound_at_module_level(tree)
+            with self.subTest(path.name):
+                self.assertEqual(len(own), len(set(own)))
+                self.assertEqual([name for name in own if hasattr(builtins, name)], [])
+            for function in [node for node in ast.walk(tree) if isinstance(node, ast.FunctionDef)]:
+                local = bound_in(function)
+                read = [node.id for node in ast.walk(function) if isinstance(node, ast.Name)]
+                with self.subTest(path.name, function=function.name):
+                    self.assertEqual([name for name in local if name in own or hasattr(builtins, name)], [])
+                    self.assertEqual([name for name in read if name not in [*local, *own, *BUILTINS]], [])
+
+    def test_imports_are_used(self):
+        for path in sorted(PACKAGE.rglob("*.py")):
+            tree = ast.parse(path.read_text())
+            imported = [alias.name for node in tree.body if isinstance(node, ast.ImportFrom) for alias in node.names]
+            read = [node.id for node in ast.walk(tree) if isinstance(node, ast.Name)]
+            with self.subTest(path.name):
+                self.assertEqual([name for name in imported if name not in read], [])
+
+    def test_methods_of_values(self):
+        for path in sorted(PACKAGE.rglob("*.py")):
+            tree = ast.parse(path.read_text())
+            own = [node.name for node in ast.walk(tree) if isinstance(node, ast.FunctionDef)]
+            called = [node.func.attr for node in ast.walk(tree)
+                      if isinstance(node, ast.Call) and isinstance(node.func, ast.Attribute)]
+            with self.subTest(path.name):
+                self.assertEqual([name for name in called if name not in [*own, *METHODS]], [])
 
     def test_imports_come_from_the_package(self):
         for path in sorted(PACKAGE.rglob("*.py")):

@@ -1,7 +1,7 @@
 """Plain enumerations, written apart from the package, to compare it with."""
 
 from functools import lru_cache
-from itertools import combinations_with_replacement, permutations
+from itertools import combinations_with_replacement, permutations, product
 
 
 def lots_with_steel(most):
@@ -147,3 +147,33 @@ def all_sharpened(lot, steps, cap):
 
 def descending(tools):
     return tuple(sorted(tools, reverse=True))
+
+
+def after_row(lots, row):
+    """The lots that some worker can have after the row, without skips, if it has one of these before it."""
+    for need in row:
+        lots = {after(lot, tool) for lot in lots for tool in able(lot, need)}
+    return lots
+
+
+def after_days(lot, days, steps, cap):
+    """For each day the lots that some worker can have at its end, however it chooses tools and spends the steps."""
+    found = []
+    lots = {lot}
+    for day, row in enumerate(days):
+        if day > 0:
+            lots = {more for one in lots for more in all_sharpened(one, steps, cap)}
+        lots = after_row(lots, row)
+        found.append(lots)
+    return found
+
+
+def days_up_to(length, rows):
+    """All lists of at most this many of the rows, at least one."""
+    return [list(days) for many in range(1, length + 1) for days in product(rows, repeat=many)]
+
+
+def is_smaller_heap(needs, heap):
+    """Whether the tasks are some of the heap, each need perhaps lowered, by trying all assignments."""
+    choices = permutations(heap, len(needs))
+    return any(all(need <= stated for need, stated in zip(needs, choice)) for choice in choices)
